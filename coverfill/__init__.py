@@ -1,0 +1,1 @@
+"""Coverfill: shapes on a floor of cells, told exactly."""
