@@ -3,6 +3,7 @@
 from coverfill.errors import NoRatio
 
 NOUGHT = (0, 1)
+HALF = (1, 2)
 
 
 def common_measure(one, other):

@@ -1,8 +1,6 @@
 """Rings and shapes: their sides and their areas."""
 
-from coverfill.ratios import minus, times, total
-
-HALF = (1, 2)
+from coverfill.ratios import HALF, minus, times, total
 
 
 def sides(ring):

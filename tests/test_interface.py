@@ -9,6 +9,10 @@ FUNCTIONS = {
                "parted(one, other)", "total(some)", "under(one, other)", "between(one, low, high)",
                "whole_part(one)"),
     "rings": ("sides(ring)", "area(ring)", "shape_area(shape)"),
+    "cuts": ("height_over(line, P)", "cut(ring, line)", "cut_shape(shape, line)", "against(line)",
+             "window(ring, left, right, low, high)", "window_shape(shape, left, right, low, high)"),
+    "walks": ("pieces(width, height, side)", "fall(piece)", "right(piece)"),
+    "sums": ("shares(width, height, shape)",),
 }
 
 

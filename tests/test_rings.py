@@ -4,7 +4,7 @@ import copy
 import unittest
 from fractions import Fraction
 
-from checks import check_ratio, point, ring_of
+from checks import area_by_strips, check_ratio, point, ring_of
 from coverfill.rings import area, shape_area, sides
 
 THIRTY = 10 ** 29 + 33
@@ -14,13 +14,6 @@ FORTY = ring_of(*[(Fraction(k * k - 7, k + 1), Fraction(k * 11 % 40 - 20, 3)) fo
 
 def turned(ring):
     return ring[::-1]
-
-
-def area_by_heights(ring):
-    """The area by another way: strips between each side and the line of height nought."""
-    exact = [(Fraction(*x), Fraction(*y)) for x, y in ring]
-    following = exact[1:] + exact[:1]
-    return sum(((p[0] - q[0]) * (p[1] + q[1]) / 2 for p, q in zip(exact, following)), Fraction(0))
 
 
 class Sides(unittest.TestCase):
@@ -127,16 +120,16 @@ class RingAreas(unittest.TestCase):
         check_ratio(self, area(ring_of((0, 0), (side, 0), (side, side), (0, side))), side * side)
         far = Fraction(-THIRTY, THIRTY + 1)
         ring = ring_of((far, THIRTY), (THIRTY, far), (Fraction(1, THIRTY), Fraction(2, THIRTY + 5)))
-        check_ratio(self, area(ring), area_by_heights(ring))
+        check_ratio(self, area(ring), area_by_strips(ring))
 
     def test_of_forty_points(self):
-        check_ratio(self, area(FORTY), area_by_heights(FORTY))
-        check_ratio(self, area(turned(FORTY)), -area_by_heights(FORTY))
+        check_ratio(self, area(FORTY), area_by_strips(FORTY))
+        check_ratio(self, area(turned(FORTY)), -area_by_strips(FORTY))
 
     def test_of_forty_points_with_thirty_figures(self):
         ring = [point(Fraction(THIRTY + k * k, THIRTY - 2 * k), Fraction(THIRTY - k, THIRTY + 3 * k + 1))
                 for k in range(40)]
-        check_ratio(self, area(ring), area_by_heights(ring))
+        check_ratio(self, area(ring), area_by_strips(ring))
 
     def test_many_small_rings(self):
         number = 1
@@ -146,7 +139,7 @@ class RingAreas(unittest.TestCase):
                 number = number * 48271 % 2147483647
                 pairs.append((Fraction(number % 41 - 20, number % 5 + 1), Fraction(number % 37 - 18, number % 7 + 1)))
             ring = ring_of(*pairs)
-            check_ratio(self, area(ring), area_by_heights(ring))
+            check_ratio(self, area(ring), area_by_strips(ring))
 
     def test_the_ring_handed_in_stays(self):
         for ring in ([], SQUARE[:1], list(SQUARE), list(FORTY)):
@@ -189,7 +182,7 @@ class ShapeAreas(unittest.TestCase):
 
     def test_of_twenty_four_rings_of_forty_points(self):
         shape = [FORTY[k:] + FORTY[:k] for k in range(24)]
-        check_ratio(self, shape_area(shape), 24 * area_by_heights(FORTY))
+        check_ratio(self, shape_area(shape), 24 * area_by_strips(FORTY))
 
     def test_of_large_ratios(self):
         shape = [ring_of((0, 0), (Fraction(1, THIRTY + k), 0), (0, 1)) for k in range(24)]
