@@ -1,8 +1,6 @@
 """Cutting: rings and shapes cut by lines and to windows."""
 
-from coverfill.ratios import NOUGHT, minus, parted, plus, times, under
-
-ONE = (1, 1)
+from coverfill.ratios import NOUGHT, ONE, minus, parted, plus, times, under
 
 
 def negative(one):

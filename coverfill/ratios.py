@@ -4,6 +4,7 @@ from coverfill.errors import NoRatio
 
 NOUGHT = (0, 1)
 HALF = (1, 2)
+ONE = (1, 1)
 
 
 def common_measure(one, other):

@@ -91,7 +91,8 @@ def check_own(case, tell, *handed):
     first = tell(*handed)
     case.assertEqual(handed, kept)
     expected = copy.deepcopy(first)
-    spoil(first)
+    if isinstance(first, list):
+        spoil(first)
     case.assertEqual(handed, kept)
     second = tell(*handed)
     case.assertEqual(second, expected)

@@ -13,6 +13,11 @@ FUNCTIONS = {
              "window(ring, left, right, low, high)", "window_shape(shape, left, right, low, high)"),
     "walks": ("pieces(width, height, side)", "fall(piece)", "right(piece)"),
     "sums": ("shares(width, height, shape)",),
+    "windings": ("winding(shape, P)",),
+    "changes": ("moved(shape, across, up)", "scaled(shape, by)", "quartered(shape, height)",
+                "mirrored(shape, width)", "turned_round(shape)"),
+    "films": ("cover(share)", "clear_film()", "seen(film, ground)", "ink_film(s, ink)", "rub_film(s)",
+              "joined(upper, lower)", "mixed(film, t)", "alone(film, t)"),
 }
 
 

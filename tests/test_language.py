@@ -152,6 +152,18 @@ class Language(unittest.TestCase):
                     names += bound_names(node)
             self.assertEqual(len(names), len(set(names)), path.name)
 
+    def test_no_parameter_or_local_is_called_like_an_import_or_class_of_its_file(self):
+        for path, text, tree in self.each_file():
+            taken = {name for node in tree.body if isinstance(node, (ast.ImportFrom, ast.ClassDef))
+                     for name in bound_names(node)}
+            for node in ast.walk(tree):
+                if isinstance(node, ast.arg) or isinstance(node, ast.Name) and isinstance(node.ctx, ast.Store):
+                    self.assertFalse(taken & set(bound_names(node)), f"{path.name}:{node.lineno}")
+
+    def test_no_two_lambdas_of_the_same_parameters_stand_on_one_line(self):
+        seen = [(place, ast.dump(node.args)) for place, node in self.each_node() if isinstance(node, ast.Lambda)]
+        self.assertEqual(len(seen), len(set(seen)))
+
 
 if __name__ == "__main__":
     unittest.main()
