@@ -13,6 +13,11 @@ def clear_film():
     return (ONE, NOUGHT, NOUGHT, NOUGHT, NOUGHT)
 
 
+def clear_ground():
+    """The ground on which nothing lies."""
+    return (NOUGHT, NOUGHT, NOUGHT, NOUGHT)
+
+
 def rest_of(part):
     """What is left of 1."""
     return minus(ONE, part)

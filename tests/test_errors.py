@@ -14,6 +14,7 @@ class Refusals(unittest.TestCase):
     def test_each_refusal_is_a_cover_error(self):
         for refusal in REFUSALS:
             self.assertTrue(issubclass(refusal, CoverError), refusal)
+            self.assertTrue(issubclass(refusal, ValueError), refusal)
             self.assertIsNot(refusal, CoverError)
 
     def test_none_stands_under_another(self):

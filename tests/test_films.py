@@ -5,6 +5,7 @@ from fractions import Fraction
 
 from checks import Drawn, as_ratio, check_ratio
 from coverfill.films import alone, clear_film, cover, ink_film, joined, mixed, rub_film, seen
+from recipes import CLEAR, alone_by_words, joined_by_words, mixed_by_words, seen_by_words
 
 THIRTY = 10 ** 29 + 33
 # Of two hundred figures, and without a common divisor with the numbers beside them.
@@ -12,7 +13,6 @@ LONG = 10 ** 199 + 153
 LONGER = 10 ** 199 + 154
 NEAR_NOUGHT = Fraction(1, LONG)
 NEAR_ONE = Fraction(LONG - 1, LONG)
-CLEAR = (1, 0, 0, 0, 0)
 STRENGTHS = (0, 1, Fraction(1, 2), Fraction(2, 3), Fraction(1, 255), NEAR_NOUGHT, NEAR_ONE)
 INKS = ((0, 0, 0), (255, 255, 255), (0, 128, 255), (255, 0, 1), (17, 51, 34))
 # Films as (k, a, r, g, b): the clear one; those that let nothing through; those of an ink, that rub, of all kinds.
@@ -30,27 +30,6 @@ def parts_of(*numbers):
 
 def exact(parts):
     return tuple(Fraction(*part) for part in parts)
-
-
-def seen_by_words(film, ground):
-    k, a, r, g, b = film
-    return (a + k * ground[0], r + k * ground[1], g + k * ground[2], b + k * ground[3])
-
-
-def joined_by_words(upper, lower):
-    k1, a1, r1, g1, b1 = upper
-    k2, a2, r2, g2, b2 = lower
-    return (k1 * k2, a1 + k1 * a2, r1 + k1 * r2, g1 + k1 * g2, b1 + k1 * b2)
-
-
-def mixed_by_words(film, t):
-    k, a, r, g, b = film
-    return (1 - t + t * k, t * a, t * r, t * g, t * b)
-
-
-def alone_by_words(film, t):
-    k, a, r, g, b = film
-    return (1 - t * a, t * a, t * r, t * g, t * b)
 
 
 def drawn_part(drawn):

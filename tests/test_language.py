@@ -31,6 +31,10 @@ NOT_USED = set(
     "register mro elements open input version_info with_traceback add_note attrgetter breakpoint builtins compile "
     "copyright credits delattr dir eval exec exit gc getattr globals hasattr help id importlib license locals "
     "methodcaller os quit setattr super vars sys format format_map chr".split())
+# Of the names that Python's own values have, a value of an object may bear these; some others it never bears.
+VALUES = set("count index title find get join lower upper split strip copy add".split())
+NO_VALUES = set("items keys values pop update append clear extend insert remove reverse setdefault sort args encode "
+                "format".split())
 WORDS = re.compile(
     r"\b(type|typing|typing_extensions|enum|Enum|IntEnum|StrEnum|Flag|IntFlag|Generic|Protocol|ABC|ABCMeta|namedtuple|"
     r"NamedTuple|TypedDict|TYPE_CHECKING|abstractmethod)\b|dataclass|overload|contextmanager")
@@ -159,6 +163,53 @@ class Language(unittest.TestCase):
             for node in ast.walk(tree):
                 if isinstance(node, ast.arg) or isinstance(node, ast.Name) and isinstance(node.ctx, ast.Store):
                     self.assertFalse(taken & set(bound_names(node)), f"{path.name}:{node.lineno}")
+
+    def test_class_bodies_hold_methods_alone_and_none_twice(self):
+        for place, node in self.each_node():
+            if isinstance(node, ast.ClassDef):
+                methods = [one for one in node.body if isinstance(one, ast.FunctionDef)]
+                others = [one for one in node.body if not isinstance(one, ast.FunctionDef)]
+                self.assertTrue(all(isinstance(one, ast.Expr) and isinstance(one.value, ast.Constant)
+                                    for one in others), place)
+                self.assertEqual(len(methods), len({method.name for method in methods}), place)
+
+    def test_no_name_is_a_method_and_a_value(self):
+        methods, values = set(), set()
+        for place, node in self.each_node():
+            if isinstance(node, ast.ClassDef):
+                methods |= {one.name for one in node.body if isinstance(one, ast.FunctionDef)}
+            if isinstance(node, ast.Attribute) and isinstance(node.ctx, ast.Store):
+                self.assertIsInstance(node.value, ast.Name, place)
+                values.add(node.attr)
+        self.assertEqual(methods & values, set())
+        self.assertEqual(values & NO_VALUES, set())
+        self.assertLessEqual(values & PYTHONS_METHODS, VALUES)
+        self.assertLessEqual((methods - set(TWO_UNDERSCORES)) & PYTHONS_METHODS, METHODS)
+
+    def test_no_two_files_draw_from_one_another(self):
+        drawn = {path.stem: {node.module.split(".")[1] for node in tree.body if isinstance(node, ast.ImportFrom)}
+                 for path, text, tree in self.each_file()}
+        while drawn:
+            free = [name for name, others in drawn.items() if not others & set(drawn)]
+            self.assertTrue(free, f"these draw from one another: {sorted(drawn)}")
+            for name in free:
+                drawn.pop(name)
+
+    def test_values_of_a_files_top_are_plain_and_hold_no_list_or_dict(self):
+        for path, text, tree in self.each_file():
+            for top in [node for node in tree.body if isinstance(node, ast.Assign)]:
+                for node in ast.walk(top.value):
+                    self.assertNotIsInstance(node, (ast.Call, ast.Name, ast.Lambda), path.name)
+                    if node is not top.value:
+                        self.assertNotIsInstance(node, (ast.List, ast.Dict, ast.Set), path.name)
+
+    def test_texts_and_what_stands_in_them(self):
+        for place, node in self.each_node():
+            if isinstance(node, ast.Constant) and isinstance(node.value, str):
+                self.assertNotIn("%", node.value, place)
+            if isinstance(node, ast.FormattedValue):
+                self.assertIsInstance(node.value, ast.Name, place)
+                self.assertIsNone(node.format_spec, place)
 
     def test_no_two_lambdas_of_the_same_parameters_stand_on_one_line(self):
         seen = [(place, ast.dump(node.args)) for place, node in self.each_node() if isinstance(node, ast.Lambda)]

@@ -3,7 +3,7 @@
 import unittest
 from fractions import Fraction
 
-from checks import Drawn, as_ratio, box, check_lists_apart, check_own, check_ratio, exact_point, ring_of
+from checks import Drawn, as_ratio, box, check_lists_apart, check_own, check_ratio, ring_of, share_by_strips
 from coverfill.sums import shares
 
 FAR = 10 ** 12
@@ -12,33 +12,6 @@ THIRTY = 10 ** 29 + 33
 
 def turned(ring):
     return ring[::-1]
-
-
-def reach_between(start, end, column):
-    """The mean, over an even way from start to end, of how far the cell's right end lies beyond x, held in 0 to 1."""
-    low, high = sorted((column + 1 - start, column + 1 - end))
-    if low == high:
-        return min(max(low, Fraction(0)), Fraction(1))
-
-    def area_up_to(bound):
-        held = min(max(bound, Fraction(0)), Fraction(1))
-        return held * held / 2 + max(bound - 1, Fraction(0))
-
-    return (area_up_to(high) - area_up_to(low)) / (high - low)
-
-
-def share_by_strips(column, row, shape):
-    """A cell's share by another way than the program's: each side held to the row, then averaged over the cell."""
-    told = Fraction(0)
-    for ring in shape:
-        exact = [exact_point(one) for one in ring]
-        for (x, y), (across, up) in zip(exact, exact[1:] + exact[:1]):
-            if y == up:
-                continue
-            ends = [min(max(end, Fraction(row)), Fraction(row + 1)) for end in (y, up)]
-            places = [x + (end - y) * (across - x) / (up - y) for end in ends]
-            told += (ends[0] - ends[1]) * reach_between(*places, column)
-    return told
 
 
 class Shares(unittest.TestCase):
